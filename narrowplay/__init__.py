@@ -1,0 +1,1 @@
+"""Narrowplay: programs in which two players choose, decided in little space."""
