@@ -14,6 +14,10 @@ INTERFACE = {
     "polys": ["is_poly", "is_word", "value_at", "sum_of", "product_of", "poly_text", "poly_read"],
     "scripts": ["is_name", "is_test", "is_command", "is_script"],
     "texts": ["written", "read"],
+    "faults": ["judge_script", "script_holds", "is_program"],
+    "plays": ["run", "state_after"],
+    "plans": ["winner", "many_plays", "make_plan", "plan_holds", "wins_from"],
+    "bounds": ["clock", "choices", "cells"],
 }
 
 BUILTINS = set((
@@ -31,6 +35,10 @@ METHODS = set((
     "append clear copy count endswith extend find get index insert isalnum isalpha isdigit islower isspace isupper items join "
     "keys ljust lower lstrip partition pop remove replace reverse rfind rjust rpartition rsplit rstrip setdefault split "
     "splitlines startswith strip update upper values zfill bit_length").split())
+
+NEVER_ATTRIBUTES = set((
+    "items keys values pop update append clear extend insert remove reverse setdefault sort args encode decode hex fromhex format "
+    "format_map mro as_integer_ratio bit_count conjugate from_bytes is_integer to_bytes").split())
 
 
 def files():
@@ -130,6 +138,31 @@ class Form(unittest.TestCase):
             inner = {node.id for node in ast.walk(tree) if isinstance(node, ast.Name) and isinstance(node.ctx, ast.Store)}
             inner |= {node.arg for node in ast.walk(tree) if isinstance(node, ast.arg)}
             self.assertFalse(inner & set(bound), name)
+
+    def test_attributes_and_methods(self):
+        for name, node in self.nodes(ast.Attribute):
+            if isinstance(node.ctx, ast.Store):
+                self.assertNotIn(node.attr, NEVER_ATTRIBUTES, name)
+                self.assertIsInstance(node.value, ast.Name, (name, node.attr))
+        native = set(dir(str) + dir(int) + dir(list) + dir(dict) + dir(set) + dir(bytes) + dir(tuple))
+        for name, node in self.nodes(ast.ClassDef):
+            methods = {part.name for part in node.body if isinstance(part, ast.FunctionDef)}
+            stored = {part.attr for part in ast.walk(node) if isinstance(part, ast.Attribute) and isinstance(part.ctx, ast.Store)}
+            self.assertFalse(methods & stored, (name, node.name))
+            self.assertFalse((methods - {"__init__"}) & native, (name, node.name))
+            self.assertFalse({word for word in methods if word.startswith("__")} - {"__init__"}, (name, node.name))
+
+    def test_captured_names(self):
+        for name, function in self.nodes(ast.FunctionDef):
+            captured = {node.name for node in ast.walk(function) if isinstance(node, ast.MatchAs)} - {None}
+            bound = {node.id for node in ast.walk(function) if isinstance(node, ast.Name) and isinstance(node.ctx, ast.Store)}
+            bound |= {node.arg for node in ast.walk(function) if isinstance(node, ast.arg)}
+            self.assertFalse(captured & bound, (name, function.name))
+            for match in [node for node in ast.walk(function) if isinstance(node, ast.Match)]:
+                inside = {node for case in match.cases for node in ast.walk(case)}
+                for node in ast.walk(function):
+                    if isinstance(node, ast.Name) and node.id in captured:
+                        self.assertIn(node, inside, (name, function.name, node.id))
 
     def test_statements_and_signs(self):
         barred = (ast.Global, ast.AsyncFunctionDef, ast.AsyncFor, ast.AsyncWith, ast.Await, ast.Div, ast.MatMult, ast.Pow)
