@@ -1,7 +1,7 @@
 """Bounds of programs, read off their texts as polynomials in the length of the input."""
 
 from narrowplay.faults import check_program
-from narrowplay.polys import product_of, sum_of
+from narrowplay.polys import constant, product_of, sum_of
 from narrowplay.scripts import COMMANDS
 
 ONE = ((0, 1),)
@@ -29,11 +29,6 @@ def cells(program):
     for _, size in tapes:
         total = sum_of(total, size)
     return sum_of(total, choices(program))
-
-
-def constant(number):
-    """Return the polynomial that has everywhere an integer from 0 on as its value."""
-    return ((0, number),) if number > 0 else ()
 
 
 def many_repeats(commands):

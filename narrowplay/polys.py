@@ -76,6 +76,11 @@ def gathered(pairs):
     return tuple(sorted(totals.items()))
 
 
+def constant(number):
+    """Return the polynomial that has everywhere an integer from 0 on as its value."""
+    return ((0, number),) if number > 0 else ()
+
+
 def poly_text(poly):
     """Return the text of a polynomial."""
     if not is_poly(poly):

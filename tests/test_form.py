@@ -18,6 +18,10 @@ INTERFACE = {
     "plays": ["run", "state_after"],
     "plans": ["winner", "many_plays", "make_plan", "plan_holds", "wins_from"],
     "bounds": ["clock", "choices", "cells"],
+    "code": ["is_code", "is_accepted", "judge_code", "code_holds"],
+    "codebounds": ["code_clock", "code_choices", "code_cells", "code_depth"],
+    "runs": ["run_code", "cells_held"],
+    "narrow": ["narrow", "code_plan", "code_plan_holds", "code_plays"],
 }
 
 BUILTINS = set((
