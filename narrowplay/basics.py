@@ -1,5 +1,7 @@
 """Kinds of values that many parts of the package ask for."""
 
+ALPHABET = "abcdefghijklmnopqrstuvwxyz"
+
 
 def is_integer(thing):
     """Return whether any value is an integer; a bool is none."""

@@ -22,6 +22,10 @@ INTERFACE = {
     "codebounds": ["code_clock", "code_choices", "code_cells", "code_depth"],
     "runs": ["run_code", "cells_held"],
     "narrow": ["narrow", "code_plan", "code_plan_holds", "code_plays"],
+    "compiler": ["compiled", "code_map", "tape_number", "index_number"],
+    "machines": ["is_machine", "depth", "first_standing", "accepts", "is_standing", "next_standing", "picture", "standing_of"],
+    "halves": ["halving_program", "many_choices", "claim_after", "asked_after", "game_won", "winning_player", "honest_pick"],
+    "formulas": ["is_formula", "matrix_value", "value_after", "formula_value", "denial", "formula_program", "is_at_most"],
 }
 
 BUILTINS = set((
