@@ -5,8 +5,8 @@ from narrowplay.frames import program_in
 from narrowplay.machines import depth
 from narrowplay.polys import constant, poly_text, sum_of
 
-# The tapes of a, b and m have the parts of the words A, B and M: what the cells hold, where the head is, the state.
-# All indexes to 1 are flags.
+# The tapes that begin with a, b and m have the parts of the words A, B and M: the cells, where the head is, the state.
+# An index to 1 is a flag.
 FRAME = """
 tape acells size WIDTH
 tape aheads size WIDTH
@@ -135,7 +135,7 @@ procedure main
 end
 """
 
-# Taken from the number of its move; an index stays at its bounds as the head does at the ends of the tape.
+# The line for each move, if any. An index stays at its bounds, as the head does at the ends of the tape.
 MOVES = {-1: ("down head",), 0: (), 1: ("up head",)}
 
 

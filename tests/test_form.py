@@ -26,6 +26,10 @@ INTERFACE = {
     "machines": ["is_machine", "depth", "first_standing", "accepts", "is_standing", "next_standing", "picture", "standing_of"],
     "halves": ["halving_program", "many_choices", "claim_after", "asked_after", "game_won", "winning_player", "honest_pick"],
     "formulas": ["is_formula", "matrix_value", "value_after", "formula_value", "denial", "formula_program", "is_at_most"],
+    "shelf": ["takeaway_winner", "ties_winner", "domino_winner", "takeaway_program", "ties_program", "domino_program"],
+    "chain": ["chain"],
+    "simplify": ["steps_from", "is_step", "after_step", "simplified", "exchanged"],
+    "single": ["is_of_one", "winning_picks", "picks_hold"],
 }
 
 BUILTINS = set((
