@@ -283,7 +283,7 @@ class Renamed(unittest.TestCase):
         self.assertGreater(min(wins.values()), 20, wins)
 
     def test_code(self):
-        for seed, program in enumerate(drawn_programs(range(250))):
+        for seed, program in enumerate(drawn_programs(range(120))):
             other = Renaming(program, seed)
             self.assertEqual((compiled(other.program), code_map(other.program)), compile_reference.compiled(other.program))
             self.assertEqual(code_map(other.program), code_map(program))

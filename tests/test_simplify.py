@@ -122,7 +122,7 @@ class Steps(unittest.TestCase):
 
     def test_drawn_programs(self):
         words = {}
-        for program in drawn_with_steps(range(250)) + drawn_programs(range(60)):
+        for program in drawn_with_steps(range(160)) + drawn_programs(range(40)):
             steps = simplify_reference.steps(program)
             self.assertEqual(steps_from(program), tuple(steps))
             for step in steps:
